@@ -1,0 +1,72 @@
+"""Words, sets, lots and weights, and the pairs of a lot that are so much alike."""
+
+from muchalike.errors import NoSet, NoWeight
+from muchalike.shares import check_kind_and_least, reaches, share_of
+
+SIGNS = "abcdefghijklmnopqrstuvwxyz0123456789."
+MOST_SIGNS = 30
+
+
+def is_word(text):
+    """Tell whether a text is a word."""
+    return 1 <= len(text) <= MOST_SIGNS and all(sign in SIGNS for sign in text)
+
+
+def check_set(words):
+    """Refuse a list of texts that is no set."""
+    for word in words:
+        if not is_word(word):
+            raise NoSet("a text in a set is no word")
+    if len(set(words)) != len(words):
+        raise NoSet("a word stands twice in a set")
+
+
+def check_sets(lot):
+    """Refuse a lot that has a list that is no set."""
+    for words in lot:
+        check_set(words)
+
+
+def check_weights(weights):
+    """Refuse weights of what is no word, or below 1."""
+    for word, number in weights.items():
+        if not is_word(word):
+            raise NoWeight("a weight is told for what is no word")
+        if number < 1:
+            raise NoWeight("a weight is below 1")
+
+
+def check_lot(lot, weights):
+    """Refuse a lot that is none, and behind it weights that are none."""
+    check_sets(lot)
+    check_weights(weights)
+
+
+def weight(words, weights):
+    """Tell what words weigh together; one without a weight of its own weighs 1."""
+    return sum(weights.get(word, 1) for word in words)
+
+
+def common(one, other, weights):
+    """Tell the words that both sets have, in the order of texts, and their weight."""
+    words = sorted(set(one) & set(other))
+    return (words, weight(words, weights))
+
+
+def share_of_sets(kind, one, other, weights):
+    """Tell the share of two sets."""
+    _, both_have = common(one, other, weights)
+    return share_of(kind, weight(one, weights), weight(other, weights), both_have)
+
+
+def plain_pairs(kind, least, lot, weights):
+    """Tell all pairs of a lot that are so much alike, by holding each against each other."""
+    check_kind_and_least(kind, least)
+    check_lot(lot, weights)
+    pairs = []
+    for i, one in enumerate(lot):
+        for j in range(i + 1, len(lot)):
+            share = share_of_sets(kind, one, lot[j], weights)
+            if reaches(share, least):
+                pairs.append((i, j, share))
+    return pairs
