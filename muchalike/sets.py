@@ -12,13 +12,15 @@ def is_word(text):
     return 1 <= len(text) <= MOST_SIGNS and all(sign in SIGNS for sign in text)
 
 
+def are_unlike_words(texts):
+    """Tell whether texts are words, none of them twice."""
+    return all(is_word(text) for text in texts) and len(set(texts)) == len(texts)
+
+
 def check_set(words):
     """Refuse a list of texts that is no set."""
-    for word in words:
-        if not is_word(word):
-            raise NoSet("a text in a set is no word")
-    if len(set(words)) != len(words):
-        raise NoSet("a word stands twice in a set")
+    if not are_unlike_words(words):
+        raise NoSet("a set is a list of unlike words")
 
 
 def check_sets(lot):
@@ -42,6 +44,16 @@ def check_lot(lot, weights):
     check_weights(weights)
 
 
+def words_of(lot):
+    """Tell the words of a lot, each once, in the order of texts."""
+    return sorted({word for words in lot for word in words})
+
+
+def has_words_of(lot, texts):
+    """Tell whether all words of a lot stand among the texts."""
+    return len(set(words_of(lot)) - set(texts)) == 0
+
+
 def weight(words, weights):
     """Tell what words weigh together; one without a weight of its own weighs 1."""
     return sum(weights.get(word, 1) for word in words)
@@ -59,14 +71,23 @@ def share_of_sets(kind, one, other, weights):
     return share_of(kind, weight(one, weights), weight(other, weights), both_have)
 
 
+def all_pairs(many):
+    """Tell all pairs (i, j), i below j, of numbers below the count, in order."""
+    return [(i, j) for i in range(many) for j in range(i + 1, many)]
+
+
+def alike_among(kind, least, pairs, one, other, weights):
+    """Tell those of the pairs, i of the one lot and j of the other, that are so much alike."""
+    told = []
+    for i, j in pairs:
+        share = share_of_sets(kind, one[i], other[j], weights)
+        if reaches(share, least):
+            told.append((i, j, share))
+    return told
+
+
 def plain_pairs(kind, least, lot, weights):
     """Tell all pairs of a lot that are so much alike, by holding each against each other."""
     check_kind_and_least(kind, least)
     check_lot(lot, weights)
-    pairs = []
-    for i, one in enumerate(lot):
-        for j in range(i + 1, len(lot)):
-            share = share_of_sets(kind, one, lot[j], weights)
-            if reaches(share, least):
-                pairs.append((i, j, share))
-    return pairs
+    return alike_among(kind, least, all_pairs(len(lot)), lot, lot, weights)

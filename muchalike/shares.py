@@ -90,3 +90,8 @@ def least_need(kind, least, a):
     """Tell what a weight and its least mate need: no mate needs less."""
     low, _ = mates(kind, least, a)
     return need(kind, least, a, low)
+
+
+def are_mates(kind, least, a, b):
+    """Tell whether two weights, perhaps 0, are mates of one another."""
+    return a > 0 and b > 0 and need(kind, least, a, b) <= min(a, b)

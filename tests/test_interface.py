@@ -3,7 +3,7 @@
 import inspect
 import unittest
 
-from muchalike import sets, shares
+from muchalike import orders, papers, parts, sets, shares, ways
 
 LISTED = (
     (shares, "share_of", ["kind", "a", "b", "c"]),
@@ -14,6 +14,17 @@ LISTED = (
     (sets, "weight", ["words", "weights"]),
     (sets, "common", ["one", "other", "weights"]),
     (sets, "plain_pairs", ["kind", "least", "lot", "weights"]),
+    (orders, "rare_order", ["lot"]),
+    (orders, "beginning", ["kind", "least", "words", "weights", "order"]),
+    (orders, "rest", ["words", "weights", "order", "word"]),
+    (parts, "even_parts", ["lot", "many"]),
+    (parts, "agree", ["one", "other", "parts"]),
+    (parts, "must_agree", ["kind", "least", "a", "b", "many"]),
+    (ways, "held", ["way", "kind", "least", "lot", "weights", "by"]),
+    (ways, "found", ["way", "kind", "least", "lot", "weights", "by"]),
+    (ways, "why_not", ["kind", "least", "one", "other", "weights", "order"]),
+    (papers, "shown", ["way", "kind", "least", "lot", "weights", "many"]),
+    (papers, "shows_all", ["kind", "least", "lot", "weights", "pairs", "paper"]),
 )
 
 
@@ -41,6 +52,21 @@ class Interface(unittest.TestCase):
         self.assertEqual((["a"], 2), sets.common(one=["a"], other=["a"], weights={"a": 2}))
         pairs = sets.plain_pairs(kind="both", least=(1, 1), lot=[["a"], ["a"]], weights={})
         self.assertEqual([(0, 1, (1, 1))], pairs)
+
+    def test_arguments_of_orders_to_papers_may_be_handed_in_by_their_names(self):
+        lot, pairs, half = [["a"], ["a"]], [(0, 1, (1, 1))], {"kind": "both", "least": (1, 2)}
+        self.assertEqual(["a"], orders.rare_order(lot=lot))
+        self.assertEqual(["a"], orders.beginning(words=["a"], weights={}, order=["a"], **half))
+        self.assertEqual(1, orders.rest(words=["a"], weights={}, order=["a"], word="a"))
+        self.assertEqual([["a"]], parts.even_parts(lot=lot, many=1))
+        self.assertEqual([0], parts.agree(one=["a"], other=["a"], parts=[["a"]]))
+        self.assertEqual(1, parts.must_agree(a=1, b=1, many=1, **half))
+        self.assertEqual([(0, 1)], ways.held(way="all", lot=lot, weights={}, by=None, **half))
+        self.assertEqual(pairs, ways.found(way="all", lot=lot, weights={}, by=None, **half))
+        self.assertIsNone(ways.why_not(one=["a"], other=["a"], weights={}, order=["a"], **half))
+        paper = ("all", [(0, 1, 1)])
+        self.assertEqual((pairs, paper), papers.shown(way="all", lot=lot, weights={}, many=1, **half))
+        self.assertTrue(papers.shows_all(lot=lot, weights={}, pairs=pairs, paper=paper, **half))
 
 
 if __name__ == "__main__":

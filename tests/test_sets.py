@@ -2,14 +2,12 @@
 
 import unittest
 from copy import deepcopy
-from fractions import Fraction
 from itertools import combinations, permutations
 
 from muchalike.errors import NoKind, NoSet, NoShare, NoWeight
 from muchalike.sets import check_lot, common, plain_pairs, weight
+from plainly import KINDS, LEASTS, alike
 
-KINDS = ("both", "mean", "greater", "lesser", "square")
-LEASTS = ((1, 1), (1, 2), (2, 3), (1, 5), (3, 7), (9, 10), (1, 10 ** 20 - 1))
 GOOD_WORDS = (
     "a", "z", "0", "9", ".", "..", "a.1", "abc", "007",
     "abcdefghijklmnopqrstuvwxyz.123", "0123456789.", "x" * 30, "." * 30,
@@ -20,29 +18,6 @@ NO_WORDS = (
 )
 LOT = [["a", "b", "c"], ["c", "b", "d"], [], ["a", "b", "c"], ["c"], [], ["e", "f"]]
 WEIGHTS = {"a": 3, "b": 1, "c": 5, "e": 10 ** 6, "unseen": 4}
-
-
-def alike_one_by_one(kind, least, lot, weights):
-    """Tell all pairs that are so much alike by the words of points 5, 9 and 10."""
-    def weigh(words):
-        return sum(weights.get(word, 1) for word in words)
-
-    pairs = []
-    for i, j in combinations(range(len(lot)), 2):
-        a, b = weigh(lot[i]), weigh(lot[j])
-        c = weigh([word for word in lot[i] if word in lot[j]])
-        share = Fraction(0)
-        if a > 0 and b > 0:
-            share = {
-                "both": Fraction(c, a + b - c),
-                "mean": Fraction(2 * c, a + b),
-                "greater": Fraction(c, max(a, b)),
-                "lesser": Fraction(c, min(a, b)),
-                "square": Fraction(c * c, a * b),
-            }[kind]
-        if share >= Fraction(*least):
-            pairs.append((i, j, (share.numerator, share.denominator)))
-    return pairs
 
 
 def all_small_sets():
@@ -188,7 +163,7 @@ class Pairs(unittest.TestCase):
         for kind in KINDS:
             for least in LEASTS:
                 for weights in ({}, WEIGHTS, {"a": 2, "b": 7, "c": 10 ** 6, "d": 1}):
-                    expected = alike_one_by_one(kind, least, lot, weights)
+                    expected = alike(kind, least, lot, weights)
                     self.assertEqual(expected, plain_pairs(kind, least, lot, weights), (kind, least))
 
     def test_empty_sets_are_alike_to_none(self):
@@ -211,7 +186,7 @@ class Pairs(unittest.TestCase):
         lot = [[f"w{number}" for number in range(first, first + 60)] for first in range(40)]
         weights = {f"w{number}": 10 ** 6 - number for number in range(100)}
         for kind in KINDS:
-            expected = alike_one_by_one(kind, (3, 4), lot, weights)
+            expected = alike(kind, (3, 4), lot, weights)
             self.assertEqual(expected, plain_pairs(kind, (3, 4), lot, weights))
 
     def test_kinds_of_what_is_told(self):

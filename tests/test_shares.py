@@ -6,8 +6,9 @@ from math import gcd
 
 from muchalike.errors import NoKind, NoShare
 from muchalike.shares import least_need, mates, need, share_of
+from plainly import KINDS, fraction
+from plainly import need as need_one_by_one
 
-KINDS = ("both", "mean", "greater", "lesser", "square")
 NO_KINDS = ("", "Both", "both ", " mean", "sum", "none", "least", "square\n", "b")
 LEASTS = tuple(
     (top, bottom)
@@ -27,22 +28,6 @@ GREAT_LEASTS = (
     (98765432109876543211, 98765432109876543212), (3, 10 ** 19),
 )
 GREAT_WEIGHTS = (1, 2, 999999, 10 ** 9 + 7, GREATEST - 1, GREATEST)
-
-
-def fraction(kind, a, b, c):
-    """Tell the share of weights from 1 on as point 5 words it."""
-    if kind == "square":
-        return Fraction(c * c, a * b)
-    below = {"both": a + b - c, "mean": a + b, "greater": max(a, b), "lesser": min(a, b)}
-    return Fraction(2 * c if kind == "mean" else c, below[kind])
-
-
-def need_one_by_one(kind, least, a, b):
-    """Tell what two weights need by going up from 0."""
-    c = 0
-    while fraction(kind, a, b, c) < Fraction(*least):
-        c += 1
-    return c
 
 
 def is_mate(kind, least, a, b):
