@@ -26,7 +26,8 @@ def share_words(one, other):
 
 def _first_of_both(one, other):
     """Tell the first word in the order that both have, of the rests of two sets with such a word."""
-    return [word for word in one if word in other][0]
+    both = [word for word in one if word in other]
+    return both[0]
 
 
 def _lesser_rest(one, other):
