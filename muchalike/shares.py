@@ -95,3 +95,14 @@ def least_need(kind, least, a):
 def are_mates(kind, least, a, b):
     """Tell whether two weights, perhaps 0, are mates of one another."""
     return a > 0 and b > 0 and need(kind, least, a, b) <= min(a, b)
+
+
+def may_share(kind, a, b):
+    """Tell what two sets may share by their weights: their share if they had the lesser in common."""
+    return share_of(kind, a, b, min(a, b))
+
+
+def rank(share, most):
+    """Tell a whole number, greater for a greater share, of shares with bottoms of at most so much."""
+    # Two unlike ones of these shares are at least 1 over most * most apart.
+    return share[0] * most * most // share[1]

@@ -3,7 +3,7 @@
 import inspect
 import unittest
 
-from muchalike import orders, papers, parts, sets, shares, ways
+from muchalike import groups, keeper, orders, papers, parts, sets, shares, teller, ways
 
 LISTED = (
     (shares, "share_of", ["kind", "a", "b", "c"]),
@@ -25,6 +25,17 @@ LISTED = (
     (ways, "why_not", ["kind", "least", "one", "other", "weights", "order"]),
     (papers, "shown", ["way", "kind", "least", "lot", "weights", "many"]),
     (papers, "shows_all", ["kind", "least", "lot", "weights", "pairs", "paper"]),
+    (groups, "groups", ["pairs", "many"]),
+    (groups, "chain", ["pairs", "many", "i", "j"]),
+    (groups, "is_chain", ["pairs", "some"]),
+    (groups, "is_closed", ["pairs", "some"]),
+)
+CLASSES = (
+    (teller, "Teller", ["kind", "lot", "weights"], {"tell": [], "held": []}),
+    (keeper, "Keeper", ["kind", "least", "weights", "order"], {
+        "add": ["name", "words"], "drop": ["name"], "weigh": ["word", "number"],
+        "pairs": [], "held": [], "names": [], "order": [],
+    }),
 )
 
 
@@ -41,6 +52,22 @@ class Interface(unittest.TestCase):
             with self.subTest(name):
                 self.assertTrue(inspect.isfunction(getattr(module, name)))
                 self.assertEqual(module.__name__, getattr(module, name).__module__)
+
+    def test_each_class_is_defined_in_its_own_file(self):
+        for module, name, arguments, _ in CLASSES:
+            with self.subTest(name):
+                listed = getattr(module, name)
+                self.assertTrue(inspect.isclass(listed))
+                self.assertEqual(module.__name__, listed.__module__)
+                self.assertEqual(arguments, list(inspect.signature(listed).parameters))
+
+    def test_each_method_is_defined_in_its_own_class(self):
+        for module, name, _, methods in CLASSES:
+            for method, arguments in methods.items():
+                with self.subTest(name=name, method=method):
+                    own = vars(getattr(module, name))[method]
+                    self.assertTrue(inspect.isfunction(own))
+                    self.assertEqual(["self"] + arguments, list(inspect.signature(own).parameters))
 
     def test_arguments_may_be_handed_in_by_their_names(self):
         self.assertEqual((1, 3), shares.share_of(kind="both", a=2, b=2, c=1))
@@ -67,6 +94,17 @@ class Interface(unittest.TestCase):
         paper = ("all", [(0, 1, 1)])
         self.assertEqual((pairs, paper), papers.shown(way="all", lot=lot, weights={}, many=1, **half))
         self.assertTrue(papers.shows_all(lot=lot, weights={}, pairs=pairs, paper=paper, **half))
+
+    def test_arguments_of_tellers_keepers_and_groups_may_be_handed_in_by_their_names(self):
+        self.assertIsNone(teller.Teller(kind="both", lot=[], weights={}).tell())
+        kept = keeper.Keeper(kind="both", least=(1, 2), weights={}, order=[])
+        self.assertEqual([], kept.add(name="n", words=["a"]))
+        self.assertIsNone(kept.weigh(word="a", number=2))
+        self.assertEqual(["a"], kept.drop(name="n"))
+        self.assertEqual([[0, 1]], groups.groups(pairs=[(0, 1)], many=2))
+        self.assertEqual([1, 0], groups.chain(pairs=[(0, 1)], many=2, i=1, j=0))
+        self.assertIs(True, groups.is_chain(pairs=[(0, 1)], some=[1, 0]))
+        self.assertIs(True, groups.is_closed(pairs=[(0, 1)], some=[1, 0]))
 
 
 if __name__ == "__main__":

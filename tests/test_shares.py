@@ -5,7 +5,7 @@ from fractions import Fraction
 from math import gcd
 
 from muchalike.errors import NoKind, NoShare
-from muchalike.shares import least_need, mates, need, share_of
+from muchalike.shares import least_need, mates, need, rank, share_of
 from plainly import KINDS, fraction
 from plainly import need as need_one_by_one
 
@@ -251,6 +251,20 @@ class Refusals(unittest.TestCase):
                 for least in LEASTS + GREAT_LEASTS:
                     with self.subTest(name, kind=kind, least=least):
                         self.assertIsNotNone(asked(kind, least))
+
+
+class Ranks(unittest.TestCase):
+
+    def test_ranks_stand_to_one_another_as_the_shares_do(self):
+        for one in LEASTS:
+            for other in LEASTS:
+                expected = Fraction(*one) < Fraction(*other)
+                self.assertEqual(expected, rank(one, 7) < rank(other, 7), (one, other))
+
+    def test_great_shares_next_to_one_another(self):
+        most = 10 ** 20
+        self.assertLess(rank((most - 2, most - 1), most), rank((most - 1, most), most))
+        self.assertLess(rank((1, most), most), rank((1, most - 1), most))
 
 
 if __name__ == "__main__":
