@@ -28,7 +28,8 @@ class Keeper:
         if name in self._sets:
             raise NoName("a set is kept by this name")
         check_set(words)
-        self._order.extend(sorted(set(words) - set(self._order)))
+        new = sorted(set(words) - set(self._order))
+        self._order.extend(new)
         names = self.names()
         kept = self._kept(names)
         pairs = self._held_of([(0, j) for j in range(len(names))], [words], kept)
