@@ -11,6 +11,11 @@ def are_wholes(thing, many):
     return isinstance(thing, tuple) and len(thing) == many and all(is_whole(number) for number in thing)
 
 
+def are_listed_wholes(thing, many):
+    """Tell whether a thing is a list of as many whole numbers."""
+    return isinstance(thing, list) and len(thing) == many and all(is_whole(number) for number in thing)
+
+
 def are_texts(thing):
     """Tell whether a thing is a list of texts."""
     return isinstance(thing, list) and all(isinstance(text, str) for text in thing)

@@ -4,7 +4,7 @@ A paper's head is all of it but the held pairs, which stand last.
 """
 
 from muchalike.errors import NoWay
-from muchalike.forms import are_texts, are_wholes, is_whole
+from muchalike.forms import are_listed_wholes, are_texts, are_wholes
 from muchalike.orders import beginning, in_places, is_order, places_of, rare_order
 from muchalike.parts import are_parts, even_parts
 from muchalike.sets import all_pairs, alike_among, check_lot, common
@@ -62,7 +62,7 @@ def shown(way, kind, least, lot, weights, many):
 
 def _are_ends(kind, least, lot, weights, order, ends):
     """Tell whether a thing tells for each set from where to where its first words may go."""
-    if not isinstance(ends, list) or len(ends) != len(lot) or not all(is_whole(end) for end in ends):
+    if not are_listed_wholes(ends, len(lot)):
         return False
     lowest = _ends(kind, least, lot, weights, order)
     return all([low <= end <= len(words) for low, end, words in zip(lowest, ends, lot)])

@@ -3,7 +3,9 @@
 import inspect
 import unittest
 
-from muchalike import groups, keeper, orders, papers, parts, sets, shares, teller, ways
+from muchalike import (
+    bags, changes, groups, keeper, orders, papers, parts, sets, shares, teller, texts, ways, within,
+)
 
 LISTED = (
     (shares, "share_of", ["kind", "a", "b", "c"]),
@@ -29,6 +31,23 @@ LISTED = (
     (groups, "chain", ["pairs", "many", "i", "j"]),
     (groups, "is_chain", ["pairs", "some"]),
     (groups, "is_closed", ["pairs", "some"]),
+    (bags, "bag_common", ["one", "other", "weights"]),
+    (bags, "bag_share", ["kind", "one", "other", "weights"]),
+    (bags, "spread", ["bag"]),
+    (bags, "spread_weights", ["bags", "weights"]),
+    (within, "within_pairs", ["lot"]),
+    (within, "tops", ["lot"]),
+    (changes, "pieces", ["text", "size"]),
+    (changes, "changed", ["text", "changes"]),
+    (changes, "apart", ["one", "other"]),
+    (changes, "is_table", ["one", "other", "table"]),
+    (changes, "near_pairs", ["texts", "most", "size"]),
+    (texts, "set_text", ["words"]),
+    (texts, "share_text", ["share"]),
+    (texts, "lot_text", ["lot"]),
+    (texts, "paper_text", ["pairs", "paper"]),
+    (texts, "read_lot", ["text"]),
+    (texts, "read_paper", ["text"]),
 )
 CLASSES = (
     (teller, "Teller", ["kind", "lot", "weights"], {"tell": [], "held": []}),
@@ -105,6 +124,25 @@ class Interface(unittest.TestCase):
         self.assertEqual([1, 0], groups.chain(pairs=[(0, 1)], many=2, i=1, j=0))
         self.assertIs(True, groups.is_chain(pairs=[(0, 1)], some=[1, 0]))
         self.assertIs(True, groups.is_closed(pairs=[(0, 1)], some=[1, 0]))
+
+    def test_arguments_of_bags_to_texts_may_be_handed_in_by_their_names(self):
+        self.assertEqual(2, bags.bag_common(one=["a"], other=["a"], weights={"a": 2}))
+        self.assertEqual((1, 1), bags.bag_share(kind="both", one=["a"], other=["a"], weights={}))
+        self.assertEqual(["a.1"], bags.spread(bag=["a"]))
+        self.assertEqual({"a.1": 2}, bags.spread_weights(bags=[["a"]], weights={"a": 2}))
+        self.assertEqual([(1, 0)], within.within_pairs(lot=[["a"], []]))
+        self.assertEqual([0], within.tops(lot=[["a"], []]))
+        self.assertEqual(["ab"], changes.pieces(text="ab", size=2))
+        self.assertEqual("b", changes.changed(text="ab", changes=[("out", 0)]))
+        self.assertEqual((0, [], [[0]]), changes.apart(one="", other=""))
+        self.assertIs(True, changes.is_table(one="", other="", table=[[0]]))
+        self.assertEqual(([(0, 1, 0)], [(0, 1)]), changes.near_pairs(texts=["a", "a"], most=0, size=1))
+        self.assertEqual("a", texts.set_text(words=["a"]))
+        self.assertEqual("1/2", texts.share_text(share=(1, 2)))
+        self.assertEqual("lot\na", texts.lot_text(lot=[["a"]]))
+        self.assertEqual("all", texts.paper_text(pairs=[], paper=("all", [])))
+        self.assertEqual([["a"]], texts.read_lot(text="lot\na"))
+        self.assertEqual(([], ("all", [])), texts.read_paper(text="all"))
 
 
 if __name__ == "__main__":

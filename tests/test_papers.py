@@ -7,6 +7,7 @@ from itertools import combinations, permutations, product
 from random import Random
 
 import plainly
+from anything import same, variants
 from muchalike.errors import NoKind, NoParts, NoSet, NoShare, NoWay, NoWeight
 from muchalike.orders import rare_order
 from muchalike.papers import shown, shows_all
@@ -18,15 +19,6 @@ PAPER_WAYS = ("all", "beginnings", "parts")
 LOT = [["a", "b", "c"], ["b", "c", "d"], [], ["a", "b", "c"], ["e"]]
 WEIGHTS = {"b": 2, "unseen": 7}
 SIGNS = "abcdefghijklmnopqrstuvwxyz0123456789."
-
-
-def same(one, other):
-    """Tell whether two things are the same, kinds and all: 1 is no truth, and a list no tuple."""
-    if type(one) is not type(other):
-        return False
-    if isinstance(one, (list, tuple)):
-        return len(one) == len(other) and all(map(same, one, other))
-    return one == other
 
 
 def has_just(things, due):
@@ -94,32 +86,6 @@ def judged(kind, least, lot, weights, pairs, paper):
 def paper_of(kind, least, lot, weights, *head):
     """Tell the paper with such a head that holds what it is to hold."""
     return head + (with_common(due_of(kind, least, lot, weights, head), lot, weights),)
-
-
-def others_than(thing):
-    """Tell other things that might stand in the place of a thing."""
-    if isinstance(thing, int):
-        return [thing - 1, thing + 1, -thing, thing + 10 ** 39, bool(thing), not thing, str(thing), [thing], None]
-    if isinstance(thing, str):
-        return ["", thing + "a", thing.upper(), " " + thing, "x" * 31, 0, True, None, [thing], (thing,)]
-    turned = list(thing) if isinstance(thing, tuple) else tuple(thing)
-    told = [turned, type(thing)(), None, 0, True, "".join(map(str, thing)), [thing], (thing,), thing[::-1]]
-    for more in (1, "a", "zz", None, False, [], (), ["a"], (0, 1), (0, 1, 0), (0, 1, (1, 1))):
-        told.append(thing + type(thing)([more]))
-    for at, one in enumerate(thing):
-        told.append(thing[:at] + thing[at + 1:])
-        told.append(thing[:at] + thing[at:at + 1] + thing[at:])
-        told.append(thing + type(thing)([one]))
-    return told
-
-
-def variants(thing):
-    """Tell all things that come of changing a thing at one place of it, whatever is nested there."""
-    yield from others_than(thing)
-    if isinstance(thing, (list, tuple)):
-        for at, one in enumerate(thing):
-            for other in variants(one):
-                yield thing[:at] + type(thing)([other]) + thing[at + 1:]
 
 
 class Shown(unittest.TestCase):
