@@ -76,14 +76,15 @@ def all_pairs(many):
     return [(i, j) for i in range(many) for j in range(i + 1, many)]
 
 
+def shares_among(kind, pairs, one, other, weights):
+    """Tell the pairs, i of the one lot and j of the other, each with its share."""
+    return [(i, j, share_of_sets(kind, one[i], other[j], weights)) for i, j in pairs]
+
+
 def alike_among(kind, least, pairs, one, other, weights):
     """Tell those of the pairs, i of the one lot and j of the other, that are so much alike."""
-    told = []
-    for i, j in pairs:
-        share = share_of_sets(kind, one[i], other[j], weights)
-        if reaches(share, least):
-            told.append((i, j, share))
-    return told
+    shares = shares_among(kind, pairs, one, other, weights)
+    return [(i, j, share) for i, j, share in shares if reaches(share, least)]
 
 
 def plain_pairs(kind, least, lot, weights):

@@ -102,6 +102,12 @@ def may_share(kind, a, b):
     return share_of(kind, a, b, min(a, b))
 
 
+def most_bottom(heavy):
+    """Tell a number that the bottom of no share of two sets of these weights exceeds."""
+    # A bottom is at most the product of both weights, or what they weigh together.
+    return sum(heavy) ** 2
+
+
 def rank(share, most):
     """Tell a whole number, greater for a greater share, of shares with bottoms of at most so much."""
     # Two unlike ones of these shares are at least 1 over most * most apart.

@@ -3,7 +3,7 @@
 from heapq import heappop, heappush
 
 from muchalike.sets import all_pairs, check_lot, share_of_sets, weight
-from muchalike.shares import check_kind, may_share, rank
+from muchalike.shares import check_kind, may_share, most_bottom, rank
 
 
 class Teller:
@@ -16,8 +16,7 @@ class Teller:
         self._lot = [list(words) for words in lot]
         self._weights = dict(weights)
         heavy = [weight(words, weights) for words in lot]
-        # No share's bottom is more: it is at most the square of what both sets weigh together.
-        self._most = sum(heavy) ** 2
+        self._most = most_bottom(heavy)
         self._held = []
         self._untold = []
         self._waiting = self._by_what_they_may_share(heavy)

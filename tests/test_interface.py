@@ -4,7 +4,8 @@ import inspect
 import unittest
 
 from muchalike import (
-    bags, changes, groups, keeper, orders, papers, parts, sets, shares, teller, texts, ways, within,
+    bags, between, changes, desk, groups, keeper, nearest, orders, papers, parts, sets, shares, steps, teller, texts,
+    ways, within,
 )
 
 LISTED = (
@@ -48,6 +49,11 @@ LISTED = (
     (texts, "paper_text", ["pairs", "paper"]),
     (texts, "read_lot", ["text"]),
     (texts, "read_paper", ["text"]),
+    (between, "held_between", ["way", "kind", "least", "one", "other", "weights", "by"]),
+    (between, "found_between", ["way", "kind", "least", "one", "other", "weights", "by"]),
+    (nearest, "nearest", ["kind", "lot", "weights", "i", "many"]),
+    (nearest, "friends", ["kind", "lot", "weights"]),
+    (steps, "steps", ["kind", "lot", "weights"]),
 )
 CLASSES = (
     (teller, "Teller", ["kind", "lot", "weights"], {"tell": [], "held": []}),
@@ -55,6 +61,7 @@ CLASSES = (
         "add": ["name", "words"], "drop": ["name"], "weigh": ["word", "number"],
         "pairs": [], "held": [], "names": [], "order": [],
     }),
+    (desk, "Desk", [], {"say": ["row"]}),
 )
 
 
@@ -143,6 +150,16 @@ class Interface(unittest.TestCase):
         self.assertEqual("all", texts.paper_text(pairs=[], paper=("all", [])))
         self.assertEqual([["a"]], texts.read_lot(text="lot\na"))
         self.assertEqual(([], ("all", [])), texts.read_paper(text="all"))
+
+    def test_arguments_of_the_desk_to_steps_may_be_handed_in_by_their_names(self):
+        self.assertEqual("0", desk.Desk().say(row="count"))
+        asked = {"kind": "both", "least": (1, 2), "one": [["a"]], "other": [["a"]], "weights": {}, "by": ["a"]}
+        self.assertEqual([(0, 0)], between.held_between(way="places", **asked))
+        self.assertEqual([(0, 0, (1, 1))], between.found_between(way="places", **asked))
+        lot = [["a"], ["a"]]
+        self.assertEqual(([(0, (1, 1))], [0]), nearest.nearest(kind="both", lot=lot, weights={}, i=1, many=1))
+        self.assertEqual([(0, 1, (1, 1))], nearest.friends(kind="both", lot=lot, weights={}))
+        self.assertEqual([((1, 1), 1, 1)], steps.steps(kind="both", lot=lot, weights={}))
 
 
 if __name__ == "__main__":
