@@ -12,7 +12,7 @@ def steps(kind, lot, weights):
     shares = shares_among(kind, all_pairs(len(lot)), lot, lot, weights)
     pairs = [pair for pair in shares if pair[2][0] > 0]
     most = most_bottom([weight(words, weights) for words in lot])
-    ranked = {rank(share, most): share for _, _, share in pairs}
+    ranked = {rank(pair[2], most): pair[2] for pair in pairs}
     told = []
     for place in sorted(ranked, reverse=True):
         alike = [pair for pair in pairs if reaches(pair[2], ranked[place])]

@@ -58,7 +58,8 @@ ASKED = {
     "held_between": {"way": "places", "one": LOT, "other": LOT[1:], "weights": WEIGHTS, "by": ORDER, **HALF},
     "found_between": {"way": "parts", "one": LOT, "other": LOT[1:], "weights": WEIGHTS, "by": PARTS, **HALF},
     "nearest": {"kind": "mean", "lot": LOT, "weights": WEIGHTS, "i": 1, "many": 1},
-    "friends": {"kind": "mean", "lot": LOT, "weights": WEIGHTS}, "steps": {"kind": "mean", "lot": LOT, "weights": WEIGHTS},
+    "friends": {"kind": "mean", "lot": LOT, "weights": WEIGHTS},
+    "steps": {"kind": "mean", "lot": LOT, "weights": WEIGHTS},
 }
 
 
@@ -111,8 +112,8 @@ class HandedIn(unittest.TestCase):
         asked = {
             "Keeper": {
                 "add": lambda: keeper.add("n", ["b", "a"]), "drop": lambda: keeper.drop("n"),
-                "weigh": lambda: keeper.weigh("q", 2), "pairs": keeper.pairs, "held": keeper.held, "names": keeper.names,
-                "order": keeper.order,
+                "weigh": lambda: keeper.weigh("q", 2), "pairs": keeper.pairs, "held": keeper.held,
+                "names": keeper.names, "order": keeper.order,
             },
             "Teller": {"tell": teller.tell, "held": teller.held}, "Desk": {"say": lambda: Desk().say("count")},
         }
